@@ -1,0 +1,1 @@
+"""Halfseen: finding plans in worlds that are seen in part."""
