@@ -1,7 +1,8 @@
 """A reading of the package's own files for the rules of LANGUAGE.md that can be seen in the text.
 
-Each check yields tuples (rule, line). Rules that ask for a whole understanding
-of the program (L11, parts of L15, L23, L28) are left to the reader.
+Each check yields tuples (rule, line). What asks for an understanding of the
+program is left to the reader: L11, L13, L23, L24, L26 and L28, and much of L15,
+L18, L19 and L22.
 """
 
 import ast
