@@ -1,7 +1,7 @@
 """Crowds: the deeds that can be done with them, where these lead, and how looks part them."""
 
 from halfseen.errors import BadDeed
-from halfseen.works import checked, checked_crowd, checked_looks, deeds_of, is_number, seen_in
+from halfseen.works import checked, checked_crowd, checked_looks, deeds_of, goal_of, is_number, seen_in
 
 
 # The functions that check nothing are for callers that have checked what they were handed.
@@ -30,6 +30,10 @@ def parted(works, looks, crowd):
     for state in crowd:
         found.setdefault(seen_in(works, looks, state), []).append(state)
     return [(seen, tuple(found[seen])) for seen in sorted(found)]
+
+
+def is_there(works, crowd):
+    return all([state in goal_of(works) for state in crowd])
 
 
 def checked_deed(works, crowd, deed):

@@ -73,6 +73,14 @@ def looks_of(works):
     return works[2]
 
 
+def begin_of(works):
+    return works[3]
+
+
+def goal_of(works):
+    return works[4]
+
+
 def checked(works):
     if not are_works(works):
         raise BadWorks("these are no works")
