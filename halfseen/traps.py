@@ -1,7 +1,7 @@
 """Traps: the crowds for which there is no plan, how a foe keeps one in them, and what it answers."""
 
 from halfseen.crowds import checked_deed, led_to, parted
-from halfseen.finding import coming_from, crowds_in, depths_of, most_deeds
+from halfseen.finding import coming_from, crowds_in, depths_of, cost_at_worst
 from halfseen.works import begin_of, checked, checked_crowd, checked_looks
 
 
@@ -27,7 +27,7 @@ def why_none(works, looks):
     rows = parted(works, looks, begin_of(works))
     coming = coming_from(works, looks, begin_of(works))
     depths = depths_of(works, coming)
-    if most_deeds(rows, depths) is not None:
+    if cost_at_worst(rows, depths) is not None:
         return None
     return (first_trap(rows, depths), sorted(without_depth(coming, depths)))
 
@@ -43,7 +43,7 @@ def held_in(works, looks):
     return told
 
 
-# A part without a plan has no depth, and most_deeds is None just where there is one: so both
+# A part without a plan has no depth, and cost_at_worst is None just where there is one: so both
 # cases of the foe's answer are asked for alike.
 def foe_answer(works, looks, crowd, deed):
     checked(works)
@@ -53,5 +53,5 @@ def foe_answer(works, looks, crowd, deed):
     behind = led_to(works, crowd, deed)
     depths = depths_of(works, coming_from(works, looks, behind))
     rows = parted(works, looks, behind)
-    most = most_deeds(rows, depths)
+    most = cost_at_worst(rows, depths)
     return [seen for seen, part in rows if depths.get(part) == most][0]

@@ -1,8 +1,8 @@
 """A reading of the package's own files for the rules of LANGUAGE.md that can be seen in the text.
 
 Each check yields tuples (rule, line). What asks for an understanding of the
-program is left to the reader: L11, L13, L23, L24, L26 and L28, and much of L15,
-L18, L19 and L22.
+program is left to the reader: L13, L26 and L28, and much of L11, L15, L18, L19,
+L22 and L23.
 """
 
 import ast
@@ -26,6 +26,11 @@ WITHIN_WORDS = "dataclass overload contextmanager".split()
 FILE_NAMES_OUT = "test tests testing site conftest sitecustomize usercustomize".split() + WORDS + dir(builtins)
 KEYWORDS = {"sorted": ["key", "reverse"], "min": ["key", "default"], "max": ["key", "default"], "sum": ["start"],
             "enumerate": ["start"], "zip": ["strict"]}
+
+VIEWS = "zip enumerate reversed range".split()
+VIEW_METHODS = "items keys values".split()
+WALKERS = "list tuple dict sorted sum any all enumerate zip".split()
+CHANGES = "append clear extend insert pop remove reverse setdefault update".split()
 
 STATEMENTS = (ast.Assign, ast.AugAssign, ast.If, ast.While, ast.For, ast.Return, ast.Break, ast.Continue, ast.Pass,
               ast.Raise, ast.Try, ast.Expr, ast.FunctionDef, ast.ClassDef, ast.ImportFrom)
@@ -171,11 +176,94 @@ def binding_faults(node):
         yield "L12", node.lineno
 
 
+def called(node):
+    """The plain name that is called here, or an empty text."""
+    return node.func.id if isinstance(node, ast.Call) and isinstance(node.func, ast.Name) else ""
+
+
+def is_view(node):
+    return called(node) in VIEWS or (
+        isinstance(node, ast.Call) and isinstance(node.func, ast.Attribute) and node.func.attr in VIEW_METHODS)
+
+
+def is_walked(node, parent):
+    if isinstance(parent, (ast.For, ast.comprehension)):
+        return parent.iter is node
+    if called(parent) in WALKERS:
+        return parent.args[:1] == [node]
+    if called(parent) in ("min", "max"):
+        return parent.args == [node]
+    if not isinstance(parent, ast.Call) or not isinstance(parent.func, ast.Attribute):
+        return False
+    return parent.func.attr == "join" and isinstance(parent.func.value, ast.Constant)
+
+
+def changed_in(loop):
+    for node in ast.walk(ast.Module(loop.body, [])):
+        if isinstance(node, ast.Call) and isinstance(node.func, ast.Attribute) and node.func.attr in CHANGES:
+            yield ast.unparse(node.func.value)
+        if isinstance(node, ast.Subscript) and isinstance(node.ctx, ast.Store):
+            yield ast.unparse(node.value)
+
+
+def loop_faults(loop):
+    inner = loop.iter
+    while isinstance(inner, ast.Call):
+        inner = inner.func.value if isinstance(inner.func, ast.Attribute) else (inner.args or [None])[0]
+    # A copy may be walked while the thing itself is changed.
+    copied = called(loop.iter) in ("list", "tuple", "sorted")
+    if inner is not None and not copied and ast.unparse(inner) in changed_in(loop):
+        yield "L23", loop.lineno
+
+
+def is_set(node):
+    if isinstance(node, ast.BinOp):
+        return is_set(node.left) or is_set(node.right)
+    return isinstance(node, ast.Set) or called(node) in ("set", "frozenset")
+
+
+def set_may_stand(node, parent):
+    if isinstance(parent, ast.BinOp):
+        return True
+    if isinstance(parent, ast.Compare) and len(parent.ops) == 1:
+        if isinstance(parent.ops[0], (ast.In, ast.NotIn)):
+            return parent.comparators == [node]
+        return isinstance(parent.ops[0], (ast.Eq, ast.NotEq)) and is_set(parent.left) and is_set(parent.comparators[0])
+    return called(parent) in ("sorted", "len") and parent.args == [node] and not parent.keywords
+
+
+def walk_faults(tree):
+    for parent in ast.walk(tree):
+        if isinstance(parent, ast.For):
+            yield from loop_faults(parent)
+        for node in ast.iter_child_nodes(parent):
+            if is_view(node) and not is_walked(node, parent):
+                yield "L23", node.lineno
+            if is_set(node) and not set_may_stand(node, parent):
+                yield "L24", node.lineno
+
+
+def shadow_faults(tree):
+    taken = [alias.asname or alias.name for node in tree.body if isinstance(node, ast.ImportFrom) for alias in node.names]
+    taken.extend(node.name for node in tree.body if isinstance(node, ast.ClassDef))
+    for node in ast.walk(tree):
+        if isinstance(node, ast.arg) and node.arg in taken:
+            yield "L15", node.lineno
+        if isinstance(node, ast.Name) and isinstance(node.ctx, ast.Store) and node.id in taken:
+            yield "L15", node.lineno
+
+
+def calls_between(text):
+    """For each def of a file's top, the plain names that stand in it."""
+    return {node.name: [inner.id for inner in ast.walk(node) if isinstance(inner, ast.Name)]
+            for node in ast.parse(text).body if isinstance(node, ast.FunctionDef)}
+
+
 def faults(text):
     tree = ast.parse(text)
     methods = [inner.name for node in tree.body if isinstance(node, ast.ClassDef)
                for inner in node.body if isinstance(inner, ast.FunctionDef)]
-    found = list(text_faults(text)) + list(top_faults(tree))
+    found = list(text_faults(text)) + list(top_faults(tree)) + list(walk_faults(tree)) + list(shadow_faults(tree))
     for node in ast.walk(tree):
         if isinstance(node, (ast.FunctionDef, ast.Lambda)):
             found.extend(def_faults(node))

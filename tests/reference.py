@@ -1,5 +1,6 @@
 """The document's words put down once more, in a slower and plainer way, for the tests to compare with."""
 
+import itertools
 import random
 
 
@@ -132,6 +133,16 @@ def some_works(source, many=None):
     return (many, deeds, looks, some_crowd(source, many, 1, many), some_crowd(source, many, 0, 2))
 
 
+def large_works(seed):
+    """Works of the greatest size, by a fixed seed."""
+    source = random.Random(seed)
+    most = 1 + seed % 3
+    deeds = tuple(tuple(some_crowd(source, 8, 0 if source.random() < 0.1 else 1, most) for state in range(8))
+                  for deed in range(5))
+    looks = tuple(tuple(source.randint(0, 1 + look % 2) for state in range(8)) for look in range(4))
+    return (8, deeds, looks, some_crowd(source, 8, 1, 8), some_crowd(source, 8, 1, 3))
+
+
 def choices(works):
     looks = range(len(works[2]))
     return [tuple(look for look in looks if bits >> look & 1) for bits in range(2 ** len(looks))]
@@ -167,3 +178,198 @@ def some_plan(source, works, looks, crowd, most):
             return None
         rows.append((seen, found))
     return tuple(rows)
+
+
+def slow_weakest(works, most):
+    """The weakest choices that are enough for so many deeds, or for any number, if most is None."""
+    enough = []
+    for looks in choices(works):
+        deeds = slow_fewest(works, looks, works[3])
+        if deeds is not None and (most is None or deeds <= most):
+            enough.append(looks)
+    weakest = [looks for looks in enough if not any(set(other) < set(looks) for other in enough)]
+    return sorted(sorted(weakest), key=len)
+
+
+def slow_luck(works, looks):
+    """By the crowds that may have come behind no deed, behind one, behind two, and so on."""
+    now = {part for seen, part in parts_of(works, looks, works[3])}
+    for deeds in range(2 ** works[0]):
+        if any(within_goal(works, crowd) for crowd in now):
+            return deeds
+        now = {part for crowd in now for deed in deeds_for(works, crowd)
+               for seen, part in parts_of(works, looks, behind(works, crowd, deed))}
+    return None
+
+
+def come_by(works, looks, table):
+    """The crowds that come by a dict of crowds and deeds; None, where one of them is not as [12] tells."""
+    come = set()
+    waiting = [part for seen, part in parts_of(works, looks, works[3])]
+    while waiting:
+        crowd = waiting.pop()
+        if crowd in come:
+            continue
+        come.add(crowd)
+        deed = table.get(crowd)
+        if deed is None and not within_goal(works, crowd):
+            return None
+        if deed is not None:
+            if deed not in deeds_for(works, crowd):
+                return None
+            waiting.extend(part for seen, part in parts_of(works, looks, behind(works, crowd, deed)))
+    return come
+
+
+def leads_there(works, looks, table, crowd):
+    """Whether the deeds of a dict may lead from the crowd, by some parts, to where one is there."""
+    come, now = set(), {crowd}
+    while not now <= come:
+        if any(within_goal(works, crowd) for crowd in now):
+            return True
+        come |= now
+        now = {part for crowd in now if table[crowd] is not None
+               for seen, part in parts_of(works, looks, behind(works, crowd, table[crowd]))}
+    return False
+
+
+def is_patient(works, looks, table):
+    """Whether patience helps by a dict, which may have more crowds than come by it."""
+    come = come_by(works, looks, table)
+    return come is not None and all(leads_there(works, looks, table, crowd) for crowd in come)
+
+
+def slow_patience(works, looks):
+    """Whether patience helps, by all tables there are: for works of few states alone."""
+    coming = slow_coming(works, looks)
+    deeds = [[None] if within_goal(works, crowd) else deeds_for(works, crowd) or [None] for crowd in coming]
+    return any(is_patient(works, looks, dict(zip(coming, row))) for row in itertools.product(*deeds))
+
+
+def patience_is_vain(works, looks):
+    """Whether patience does not help, by leaving out what can't be kept to: for works of any size."""
+    rows = {crowd: [[part for seen, part in parts_of(works, looks, behind(works, crowd, deed))]
+                    for deed in deeds_for(works, crowd)] for crowd in slow_coming(works, looks)}
+    safe = set(rows)
+    while True:
+        helped = {crowd for crowd in safe if within_goal(works, crowd)}
+        while True:
+            more = {crowd for crowd in safe for row in rows[crowd] if set(row) <= safe and set(row) & helped}
+            if more <= helped:
+                break
+            helped |= more
+        if helped == safe:
+            return any(part not in safe for seen, part in parts_of(works, looks, works[3]))
+        safe = helped
+
+
+def bought_within(works, prices, crowd, most, known):
+    """Whether there is a bought plan for the crowd at such a price at the most."""
+    if (crowd, most) not in known:
+        steps = [(prices[0][deed], [behind(works, crowd, deed)]) for deed in deeds_for(works, crowd)]
+        for look, price in enumerate(prices[1]):
+            parts = [part for seen, part in parts_of(works, (look,), crowd)]
+            if len(parts) > 1:
+                steps.append((price, parts))
+        known[crowd, most] = within_goal(works, crowd) or any(
+            price <= most and all(bought_within(works, prices, part, most - price, known) for part in parts)
+            for price, parts in steps)
+    return known[crowd, most]
+
+
+def slow_cheapest(works, prices):
+    # No plan at the least price comes to a crowd twice on a way, so it has fewer steps than there are crowds.
+    known = {}
+    for most in range(2 ** works[0] * max(prices[0] + prices[1])):
+        if bought_within(works, prices, works[3], most, known):
+            return most
+    return None
+
+
+def price_at_worst(works, prices, crowd, plan):
+    """What a bought plan for the crowd comes to at the worst; None, if it is none."""
+    if type(plan) is not tuple or not plan or type(plan[0]) is not str:
+        return None
+    if plan == ("done",):
+        return 0 if within_goal(works, crowd) else None
+    if len(plan) != 3 or type(plan[1]) is not int or plan[0] not in ("do", "look"):
+        return None
+    if plan[0] == "do":
+        if plan[1] not in deeds_for(works, crowd):
+            return None
+        worst = price_at_worst(works, prices, behind(works, crowd, plan[1]), plan[2])
+        return None if worst is None else prices[0][plan[1]] + worst
+    if plan[1] not in range(len(works[2])) or type(plan[2]) is not tuple:
+        return None
+    parts = parts_of(works, (plan[1],), crowd)
+    if len(parts) < 2 or any(type(row) is not tuple or len(row) != 2 or type(row[0]) is not int for row in plan[2]):
+        return None
+    if [(row[0],) for row in plan[2]] != [seen for seen, part in parts]:
+        return None
+    inner = [price_at_worst(works, prices, part, row[1]) for (seen, part), row in zip(parts, plan[2])]
+    return None if None in inner else prices[1][plan[1]] + max(inner)
+
+
+def partings(states):
+    """All partings of a rising list of states, each a list of rising lists."""
+    if not states:
+        return [[]]
+    found = []
+    for rest in partings(states[1:]):
+        found.append([states[:1]] + rest)
+        for place, alike in enumerate(rest):
+            found.append(rest[:place] + [states[:1] + alike] + rest[place + 1:])
+    return found
+
+
+def may_be_alike(works, parting):
+    """Whether the states that a parting leaves together are as [15] asks for."""
+    kind = {state: number for number, alike in enumerate(parting) for state in alike}
+    marks = [(state in works[4], [look[state] for look in works[2]],
+              [{kind[target] for target in leads[state]} for leads in works[1]]) for state in range(works[0])]
+    return all(marks[first] == marks[second] for alike in parting for first in alike for second in alike)
+
+
+def slow_alike(works):
+    """The coarsest of all partings there are: for works of few states alone."""
+    return sorted(min([parting for parting in partings(list(range(works[0]))) if may_be_alike(works, parting)], key=len))
+
+
+def some_prices(source, works, most):
+    return (tuple(source.randint(1, most) for deed in works[1]), tuple(source.randint(1, most) for look in works[2]))
+
+
+def renumbered(works, numbers):
+    """The same works, the states having other numbers: for each old one, in their order, the new one."""
+    many, deeds, looks, begin, goal = works
+
+    def crowd_of(crowd):
+        return tuple(sorted(numbers[state] for state in crowd))
+    old = [numbers.index(number) for number in range(many)]
+    return (
+        many,
+        tuple(tuple(crowd_of(leads[state]) for state in old) for leads in deeds),
+        tuple(tuple(look[state] for state in old) for look in looks),
+        crowd_of(begin),
+        crowd_of(goal),
+    )
+
+
+def blown_up(source, works, many):
+    """Works of so many states, each of which is like one of the others: deeds lead to some of those that are alike."""
+    originals = list(range(works[0])) + [source.randrange(works[0]) for more in range(many - works[0])]
+    source.shuffle(originals)
+
+    def some_of(crowd):
+        found = []
+        for state in crowd:
+            copies = [number for number in range(many) if originals[number] == state]
+            found.extend(source.sample(copies, source.randint(1, len(copies))))
+        return tuple(sorted(found))
+    return (
+        many,
+        tuple(tuple(some_of(leads[state]) for state in originals) for leads in works[1]),
+        tuple(tuple(look[state] for state in originals) for look in works[2]),
+        some_of(works[3]),
+        tuple(number for number in range(many) if originals[number] in works[4]),
+    )

@@ -1,14 +1,12 @@
 """Finding plans: the fewest deeds, and plans that have just so many."""
 
 import copy
-import random
 import time
 import unittest
 
 from halfseen.finding import a_plan, fewest
 from halfseen.works import all_looks
-from tests.reference import (
-    choices, deeds_at_worst, many_works, slow_fewest, some_crowd, where_it_fails)
+from tests.reference import choices, deeds_at_worst, large_works, many_works, slow_fewest, where_it_fails
 from tests.samples import ALL_EIGHT, FOUR, LARGE, ONE, TWO, replaced
 from tests.worlds import FOE, FORK, HELD, LINE, MAZE, RING, ROUND, STAY
 
@@ -47,16 +45,6 @@ def fewest_by_bits(works, looks):
     if any(part not in depth for part in parts[bits[0]]):
         return None
     return max(depth[part] for part in parts[bits[0]])
-
-
-def large_works(seed):
-    """Works of the greatest size, by a fixed seed."""
-    source = random.Random(seed)
-    most = 1 + seed % 3
-    deeds = tuple(tuple(some_crowd(source, 8, 0 if source.random() < 0.1 else 1, most) for state in range(8))
-                  for deed in range(5))
-    looks = tuple(tuple(source.randint(0, 1 + look % 2) for state in range(8)) for look in range(4))
-    return (8, deeds, looks, some_crowd(source, 8, 1, 8), some_crowd(source, 8, 1, 3))
 
 
 class TestFewest(unittest.TestCase):

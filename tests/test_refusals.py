@@ -1,16 +1,22 @@
-"""Finding, plans and traps: BadWorks, BadLooks, BadCrowd and BadDeed, and the order of all refusals."""
+"""All files behind crowds: BadWorks, BadLooks, BadCrowd and BadDeed, and the order of all refusals."""
 
 import unittest
 
-from halfseen.errors import BadCrowd, BadDeed, BadLooks, BadPlan, BadRun, BadWorks
+from halfseen.errors import BadCrowd, BadDeed, BadLooks, BadNumber, BadPlan, BadPrices, BadRun, BadWorks
 from halfseen.finding import a_plan, fewest
+from halfseen.merging import alike_states, merged
 from halfseen.plans import deeds_in, deepest, excess, run
+from halfseen.prices import a_bought_plan, cheapest
+from halfseen.sights import needless, weakest, weakest_within, worth_of
+from halfseen.strengths import blind_row, by_luck, patient_table, seen_whole, strength
 from halfseen.traps import foe_answer, held_in, traps, why_none
 from tests.samples import FOUR, LARGE, NO_NUMBERS, NO_TUPLES, ONE, TWO, Strange, no_crowds, no_works, replaced
 from tests.worlds import DONE, FORK, MAZE, MAZE_PLAN
 
-WITHOUT_PLAN = [fewest, a_plan, traps, why_none, held_in]
+WORKS_ALONE = [needless, weakest, blind_row, seen_whole, alike_states, merged]
+WITHOUT_PLAN = [fewest, a_plan, traps, why_none, held_in, by_luck, patient_table, strength]
 WITH_PLAN = [deepest, excess, deeds_in]
+WITH_PRICES = [cheapest, a_bought_plan]
 
 NO_CHOICES_OF_TWO = NO_TUPLES + no_crowds(2) + [(0, 1, 2), (1, 0), (0, 0, 1), (0, 1, 1)]
 SOME_NO_WORKS = [None, (), [], list(MAZE), MAZE[:4], MAZE + ((),), replaced(MAZE, (3,), ()), replaced(MAZE, (0,), 5),
@@ -19,6 +25,8 @@ SOME_NO_LOOKS = [None, [], [0], (2,), (1, 0), (0, 0), (-1,), (False,), (0, True)
 SOME_NO_PLANS = [None, (), [], MAZE_PLAN[:1], (((0,), DONE), MAZE_PLAN[1]), Strange()]
 SOME_NO_CROWDS = [None, (), [0], (9,), (1, 0), (True,), Strange()]
 SOME_NO_DEEDS = [None, -1, 2, True, False, (0,), Strange()]
+SOME_NO_PRICES = [None, (), ((1, 1),), ((1, 1), (1,)), ((1, 1), (0, 1)), [(1, 1), (1, 1)], ((True, 1), (1, 1)), Strange()]
+SOME_NO_MOST = [None, -1, 1000, True, False, 0.0, "0", Strange()]
 
 
 class TestBadWorks(unittest.TestCase):
@@ -31,6 +39,12 @@ class TestBadWorks(unittest.TestCase):
                     self.assertRaises(BadWorks, asked, works, (), (((), DONE),))
                 self.assertRaises(BadWorks, run, works, (), (((), DONE),), 0, [])
                 self.assertRaises(BadWorks, foe_answer, works, (), (0,), 0)
+                for asked in WORKS_ALONE:
+                    self.assertRaises(BadWorks, asked, works)
+                for asked in WITH_PRICES:
+                    self.assertRaises(BadWorks, asked, works, ((1, 1), (1, 1)))
+                self.assertRaises(BadWorks, weakest_within, works, 0)
+                self.assertRaises(BadWorks, worth_of, works, 0)
 
 
 class TestBadLooks(unittest.TestCase):
@@ -105,6 +119,25 @@ class TestOrderOfRefusals(unittest.TestCase):
                 for crowd in SOME_NO_CROWDS + [(0,)]:
                     for deed in SOME_NO_DEEDS + [0]:
                         self.assertRaises(BadWorks, foe_answer, works, looks, crowd, deed)
+
+    def test_works_ahead_of_prices_numbers_and_a_look(self):
+        for works in SOME_NO_WORKS:
+            for prices in SOME_NO_PRICES + [((1, 1), (1, 1))]:
+                for asked in WITH_PRICES:
+                    self.assertRaises(BadWorks, asked, works, prices)
+            for most in SOME_NO_MOST + [0, 999]:
+                self.assertRaises(BadWorks, weakest_within, works, most)
+            for look in SOME_NO_LOOKS + [-1, 2, True, None, 1]:
+                self.assertRaises(BadWorks, worth_of, works, look)
+
+    def test_each_of_these_alone(self):
+        for prices in SOME_NO_PRICES:
+            for asked in WITH_PRICES:
+                self.assertRaises(BadPrices, asked, MAZE, prices)
+        for most in SOME_NO_MOST:
+            self.assertRaises(BadNumber, weakest_within, MAZE, most)
+        for look in (-1, 2, True, False, None, (0,), "0", Strange()):
+            self.assertRaises(BadLooks, worth_of, MAZE, look)
 
     def test_then_looks(self):
         for looks in SOME_NO_LOOKS:

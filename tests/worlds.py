@@ -124,3 +124,55 @@ def stay_plan(turns, last):
 
 
 STAY_LAST = ("do", 1, (((1,), DONE),))
+
+# Deed 0 leads from 0 alone, straight to the goal 2; deed 1 leads on everywhere. The
+# look tells 0 from the others, and saves one deed.
+BOTH = (3, (((2,), (), ()), ((1,), (2,), (2,))), ((0, 1, 1),), (0, 1), (2,))
+
+# Behind deed 0 one is in 1, 2, 3 or 4, and deed 1, 2, 3 or 4 alone is right there; all
+# others lead to 6, which is never left. FIRST tells 1 and 2 from 3 and 4, SECOND 1 and
+# 3 from 2 and 4, EACH tells all four, NOTHING none.
+FIRST = (0, 0, 0, 1, 1, 0, 0)
+SECOND = (0, 0, 1, 0, 1, 0, 0)
+EACH = (0, 1, 2, 3, 4, 0, 0)
+NOTHING = (3,) * 7
+
+
+def quad(looks):
+    right = tuple(tuple(() if state in (0, 5, 6) else (5,) if state == deed else (6,) for state in range(7))
+                  for deed in (1, 2, 3, 4))
+    return (7, (((1, 2, 3, 4), (), (), (), (), (), ()),) + right, looks, (0,), (5,))
+
+
+# One look, needed twice: behind deed 0 deed 1 is right in 1 and deed 2 in 2; both lead to 3
+# or 4, where just the same is so once more.
+TWICE = (
+    6,
+    (
+        ((1, 2), (), (), (), (), ()),
+        ((), (3, 4), (), (5,), (), ()),
+        ((), (), (3, 4), (), (5,), ()),
+    ),
+    ((0, 0, 1, 0, 1, 0),),
+    (0,),
+    (5,),
+)
+
+# Deed 0 may fail again and again, deed 1 leads nowhere for ever; all is seen.
+AGAIN = (2, (((0, 1), (1,)), ((0,), (1,))), ((0, 1),), (0,), (1,))
+
+# By deed 0 one is in the goal 3 at once, or in 2, which is never left. Deed 1 may fail,
+# and leads to 1, from where it leads to the goal. All is seen.
+RISK = (4, (((2, 3), (), (), ()), ((0, 1), (3,), (), (3,))), ((0, 1, 2, 3),), (0,), (3,))
+
+# Each deed may lead to the goal 4 or one state on, and 3 is never left. All is seen.
+SLOPE = (5, (((1, 4), (2, 4), (3, 4), (), ()),), ((0, 1, 2, 3, 4),), (0,), (4,))
+
+# STAY, with each state told twice: 0 and 2 are its 0, 1 and 3 its 1.
+STAY_TWICE = (
+    4,
+    (((2,), (1, 3), (0, 2), (1,)), ((1, 3), (), (3,), ())),
+    ((0, 1, 0, 1),),
+    (2,),
+    (1, 3),
+)
